@@ -41,6 +41,11 @@ def less(one, other):
     return fraction(one[0] * other[1] - other[0] * one[1], one[1] * other[1])
 
 
+def product(one, other):
+    """The one fraction multiplied by the other."""
+    return fraction(one[0] * other[0], one[1] * other[1])
+
+
 def is_below(one, other):
     """Whether the first fraction is below the second."""
     return one[0] * other[1] < other[0] * one[1]

@@ -1,0 +1,230 @@
+"""The document's tellings, sayings, rows, steps and papers once more, told by times that are laid out, not by tables."""
+
+import functools
+import itertools
+from fractions import Fraction
+
+from layouts import ALL_KINDS, ORDER, TURNED, WORDS, laid_out, way, word_laid
+
+
+@functools.lru_cache(maxsize=None)
+def sample(kinds, word):
+    """Begins and ends of two things that have the word."""
+    for one in laid_out(kinds[0], range(4)):
+        for other in laid_out(kinds[1], range(4)):
+            if word_laid(kinds, one, other) == word:
+                return one, other
+    raise AssertionError((kinds, word))
+
+
+@functools.lru_cache(maxsize=None)
+def behind_laid(kinds, one, other):
+    """The words of the first with the third in times of six marks where both words are so."""
+    found = set()
+    for b in laid_out(kinds[1], range(6)):
+        firsts = [a for a in laid_out(kinds[0], range(6)) if word_laid(kinds[:2], a, b) == one]
+        thirds = [c for c in laid_out(kinds[2], range(6)) if word_laid(kinds[1:], b, c) == other]
+        found |= {word_laid((kinds[0], kinds[2]), a, c) for a in firsts for c in thirds}
+    return found
+
+
+def fraction_of(number):
+    return Fraction(number[0], number[1])
+
+
+def laid_by(things, telling):
+    """The begin and the end of each named thing of a telling."""
+    found = {}
+    for (name, kind), times in zip(things, telling):
+        two = (times, times) if kind == "point" else times
+        found[name] = tuple(fraction_of(time) for time in two)
+    return found
+
+
+def word_in(things, telling, a, b):
+    """The word that two named things have in a telling."""
+    kinds, laid = dict(things), laid_by(things, telling)
+    return word_laid((kinds[a], kinds[b]), laid[a], laid[b])
+
+
+def is_row_so(things, telling, row):
+    """Whether a telling has a row, may or gap."""
+    if len(row) == 3:
+        return word_in(things, telling, row[0], row[1]) in row[2]
+    laid = laid_by(things, telling)
+    (a, x), (b, y), number, strict = row
+    apart = laid[a][x] - laid[b][y]
+    return apart < fraction_of(number) if strict else apart <= fraction_of(number)
+
+
+def is_fault_row(row):
+    """Whether a row is a fault."""
+    if len(row) == 3:
+        return len(row[2]) == 0
+    return row[0] == row[1] and (fraction_of(row[2]) < 0 or fraction_of(row[2]) == 0 and row[3])
+
+
+def is_number(thing, many):
+    return type(thing) is int and 0 <= thing < many
+
+
+def is_end_of(things, thing):
+    kinds = dict(things)
+    if type(thing) is not tuple or len(thing) != 2 or type(thing[0]) is not str or thing[0] not in kinds:
+        return False
+    return type(thing[1]) is int and (thing[1] == 0 or thing[1] == 1 and kinds[thing[0]] == "stretch")
+
+
+def is_of_two(things, a, b):
+    kinds = dict(things)
+    return type(a) is str and type(b) is str and a in kinds and b in kinds and a != b
+
+
+def in_order(words):
+    return tuple(word for word in ORDER if word in words)
+
+
+def way_in(things, row, word, x, y):
+    """How x stands to y in a word of a may row."""
+    a, b, words = row
+    kinds = dict(things)
+    laid = dict(zip((a, b), sample((kinds[a], kinds[b]), word)))
+    return way(laid[x[0]][x[1]], laid[y[0]][y[1]])
+
+
+def row_given(talk, rows, step):
+    """The row that a thing gives as a step, or None."""
+    things, sayings = talk
+    kinds = dict(things)
+    if type(step) is not tuple or len(step) < 2 or type(step[0]) is not str:
+        return None
+    name, given = step[0], step[1:]
+    if name == "told" and len(given) == 1 and is_number(given[0], len(sayings)):
+        return tuple(sayings[given[0]][1:])
+    if name == "any" and len(given) == 2 and is_of_two(things, *given):
+        return (given[0], given[1], WORDS[kinds[given[0]], kinds[given[1]]])
+    if name == "long" and len(given) == 1 and type(given[0]) is str and kinds.get(given[0]) == "stretch":
+        return ((given[0], 0), (given[0], 1), (0, 1), True)
+    if name == "ends" and len(given) == 3 and is_number(given[0], len(rows)):
+        return ends_given(things, rows[given[0]], given[1], given[2])
+    if name == "turned" and len(given) == 1 and is_number(given[0], len(rows)):
+        row = rows[given[0]]
+        return (row[1], row[0], in_order([TURNED[word] for word in row[2]])) if len(row) == 3 else None
+    if len(given) == 2 and is_number(given[0], len(rows)) and is_number(given[1], len(rows)):
+        return of_two_rows(things, name, rows[given[0]], rows[given[1]])
+    return None
+
+
+def ends_given(things, row, x, y):
+    if len(row) != 3 or not row[2] or not is_end_of(things, x) or not is_end_of(things, y):
+        return None
+    if {x[0], y[0]} != {row[0], row[1]}:
+        return None
+    ways = {way_in(things, row, word, x, y) for word in row[2]}
+    return None if 1 in ways else (x, y, (0, 1), ways == {-1})
+
+
+def of_two_rows(things, name, one, other):
+    kinds = dict(things)
+    if name == "behind" and len(one) == 3 and len(other) == 3 and one[1] == other[0] and one[0] != other[1]:
+        three = (kinds[one[0]], kinds[one[1]], kinds[other[1]])
+        found = set().union(*[behind_laid(three, a, b) for a in one[2] for b in other[2]])
+        return (one[0], other[1], in_order(found))
+    if name == "both" and len(one) == 3 and len(other) == 3 and one[:2] == other[:2]:
+        return (one[0], one[1], in_order(set(one[2]) & set(other[2])))
+    if name == "strike" and len(one) == 3 and len(other) == 4:
+        x, y, number, strict = other
+        if {x[0], y[0]} != {one[0], one[1]} or fraction_of(number) > 0:
+            return None
+        good = (-1,) if strict or fraction_of(number) < 0 else (-1, 0)
+        return (one[0], one[1], tuple(word for word in one[2] if way_in(things, one, word, x, y) in good))
+    if name == "add" and len(one) == 4 and len(other) == 4 and one[1] == other[0]:
+        total = fraction_of(one[2]) + fraction_of(other[2])
+        return (one[0], other[1], (total.numerator, total.denominator), one[3] or other[3])
+    return None
+
+
+def is_case(things, row, part):
+    """Whether a thing is a part of cases of the row, whatever its paper."""
+    if type(part) is not tuple or len(part) != 2 or type(part[0]) is not tuple:
+        return False
+    if not all(type(word) is str for word in part[0]):
+        return False
+    return part[0] == in_order(part[0]) and set(part[0]) <= set(row[2])
+
+
+def refusal(talk, thing, rows=(), path=(), deep=1):
+    """Path and word of the first that the checker has to refuse, or None where the thing is let by."""
+    if type(thing) is not tuple:
+        return (path, "shape")
+    rows = list(rows)
+    for place, step in enumerate(thing):
+        row = row_given(talk, rows, step)
+        if row is not None:
+            rows.append(row)
+            continue
+        here = path + (place,)
+        if place != len(thing) - 1 or type(step) is not tuple or len(step) != 3 or step[0] != "cases" or deep > 12:
+            return (here, "step")
+        if not is_number(step[1], len(rows)) or len(rows[step[1]]) != 3:
+            return (here, "step")
+        may, parts = rows[step[1]], step[2]
+        if type(parts) is not tuple or not parts or not all(is_case(talk[0], may, part) for part in parts):
+            return (here, "step")
+        if set().union(*[part[0] for part in parts]) != set(may[2]):
+            return (here, "step")
+        for number, (words, paper) in enumerate(parts):
+            found = refusal(talk, paper, rows + [(may[0], may[1], words)], here + (number,), deep + 1)
+            if found is not None:
+                return found
+        return None
+    return None if thing and is_fault_row(rows[-1]) else (path, "open")
+
+
+def all_tellings(things, marks):
+    """Each telling of the things with times among the marks, whole numbers."""
+    choices = []
+    for name, kind in things:
+        laid = laid_out(kind, marks)
+        choices.append([(a, 1) if kind == "point" else ((a, 1), (b, 1)) for a, b in laid])
+    return itertools.product(*choices)
+
+
+def some_things(dice, many):
+    """Things of so many names, kinds chosen by the dice."""
+    return tuple((name, dice.choice(("point", "stretch"))) for name in ("a", "ab", "b", "m", "x", "z")[:many])
+
+
+def some_ends(dice, things):
+    """Two unlike ends; there have to be two."""
+    ends = [(name, number) for name, kind in things for number in ((0,) if kind == "point" else (0, 1))]
+    return tuple(dice.sample(ends, 2))
+
+
+def some_number(dice):
+    number = Fraction(dice.randrange(-9, 10), dice.choice((1, 1, 2, 3, 4, 999999)))
+    return (number.numerator, number.denominator)
+
+
+def some_saying(dice, things):
+    """A saying of the things, of which there are two or more."""
+    if dice.random() < 0.4:
+        x, y = some_ends(dice, things)
+        return ("gap", x, y, some_number(dice), dice.random() < 0.5)
+    (a, one), (b, other) = dice.sample(things, 2)
+    words = WORDS[one, other]
+    chosen = dice.sample(words, dice.randrange(1, len(words) + 1))
+    return ("may", a, b, in_order(chosen))
+
+
+def some_telling(dice, things):
+    """A telling of the things whose times often fall together."""
+    found = []
+    for name, kind in things:
+        times = sorted(dice.sample([Fraction(n, d) for d in (1, 2) for n in range(7) if n % d or d == 1], 2))
+        pairs = tuple((time.numerator, time.denominator) for time in times)
+        found.append(pairs[0] if kind == "point" else pairs)
+    return tuple(found)
+
+
+assert set(ALL_KINDS) == set(WORDS)
