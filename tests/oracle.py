@@ -4,7 +4,7 @@ import functools
 import itertools
 from fractions import Fraction
 
-from layouts import ALL_KINDS, ORDER, TURNED, WORDS, laid_out, way, word_laid
+from layouts import ORDER, TURNED, WORDS, laid_out, way, word_laid
 
 
 @functools.lru_cache(maxsize=None)
@@ -227,4 +227,103 @@ def some_telling(dice, things):
     return tuple(found)
 
 
-assert set(ALL_KINDS) == set(WORDS)
+def mays_said(talk):
+    """What the may sayings leave to each two things, the first ahead of the second: sets of words."""
+    things, sayings = talk
+    kinds = dict(things)
+    names = [name for name, kind in things]
+    found = {(a, b): set(WORDS[kinds[a], kinds[b]]) for a, b in itertools.combinations(names, 2)}
+    for saying in sayings:
+        if saying[0] == "may" and (saying[1], saying[2]) in found:
+            found[saying[1], saying[2]] &= set(saying[3])
+        elif saying[0] == "may":
+            found[saying[2], saying[1]] &= {TURNED[word] for word in saying[3]}
+    return found
+
+
+def closed_laid(talk):
+    """The greatest closed table, by going round until nothing goes, or None."""
+    things = talk[0]
+    kinds = dict(things)
+    left = mays_said(talk)
+    for a, b in list(left):
+        left[b, a] = {TURNED[word] for word in left[a, b]}
+    gone = True
+    while gone:
+        gone = False
+        for a, b, c in itertools.permutations(kinds, 3):
+            three = (kinds[a], kinds[b], kinds[c])
+            can = set().union(*[behind_laid(three, one, other) for one in left[a, b] for other in left[b, c]])
+            if not left[a, c] <= can:
+                left[a, c] &= can
+                left[c, a] = {TURNED[word] for word in left[a, c]}
+                gone = True
+    names = [name for name, kind in things]
+    table = tuple((a, b, in_order(left[a, b])) for a, b in itertools.combinations(names, 2))
+    return None if () in [row[2] for row in table] else table
+
+
+def laid_into(kind, many):
+    """Each begin and end that a thing can have beside so many unlike marks, which are 2, 5, 8 ..; each order once."""
+    single = [mark for at in range(many) for mark in (3 * at, 3 * at + 2)] + [3 * many]
+    if kind == "point":
+        return [(mark, mark) for mark in single]
+    return list(itertools.combinations(single, 2)) + [(3 * at, 3 * at + 1) for at in range(many + 1)]
+
+
+def orders(things, mays, laid=()):
+    """Each order of the ends, as begins and ends that are ranks, in which each two things have one of their words."""
+    if len(laid) == len(things):
+        yield laid
+        return
+    name, kind = things[len(laid)]
+    marks = len({mark for two in laid for mark in two})
+    for new in laid_into(kind, marks):
+        wider = [(3 * a + 2, 3 * b + 2) for a, b in laid]
+        good = all(word_laid((one, kind), two, new) in mays[other, name] for (other, one), two in zip(things, wider))
+        if good:
+            rank = {mark: at for at, mark in enumerate(sorted({mark for two in wider + [new] for mark in two}))}
+            yield from orders(things, mays, tuple((rank[a], rank[b]) for a, b in wider + [new]))
+
+
+def fitting(talk):
+    """Each order in which a telling fits, as a telling of the least whole numbers; gap sayings are passed over."""
+    things = talk[0]
+    for laid in orders(things, mays_said(talk)):
+        yield tuple((a, 1) if kind == "point" else ((a, 1), (b, 1)) for (name, kind), (a, b) in zip(things, laid))
+
+
+def table_laid(things, telling):
+    """The table of the words that two things have in a telling."""
+    return tuple((a, b, (word_in(things, telling, a, b),)) for (a, k), (b, l) in itertools.combinations(things, 2))
+
+
+def some_may_saying(dice, things, most):
+    """A may saying of at most so many words."""
+    (a, one), (b, other) = dice.sample(things, 2)
+    words = WORDS[one, other]
+    return ("may", a, b, in_order(dice.sample(words, dice.randrange(1, min(most, len(words)) + 1))))
+
+
+def some_gap_saying(dice, things):
+    x, y = some_ends(dice, things)
+    return ("gap", x, y, some_number(dice), dice.random() < 0.5)
+
+
+def some_talk(dice, things, mays, gaps=0, most=13):
+    """A talk of two things or more with so many may sayings, and gap sayings among them."""
+    sayings = [some_may_saying(dice, things, most) for at in range(mays)]
+    sayings += [some_gap_saying(dice, things) for at in range(gaps)]
+    dice.shuffle(sayings)
+    return (things, tuple(sayings))
+
+
+def kept_talk(dice, things, mays, gaps=0, most=13):
+    """A talk likewise whose may sayings some telling keeps."""
+    telling = some_telling(dice, things)
+    sayings = []
+    for saying in some_talk(dice, things, mays, gaps, most)[1]:
+        if saying[0] == "may":
+            saying = saying[:3] + (in_order(saying[3] + (word_in(things, telling, saying[1], saying[2]),)),)
+        sayings.append(saying)
+    return (things, tuple(sayings))

@@ -51,18 +51,44 @@ def behind_words(kinds, one, other):
     return tuple([word for word in words_of(ends) if go_with(forced, ways_by(ends, word))])
 
 
+class Behinds:
+    """What was reckoned of words and mays behind one another, each kept to be found again."""
+
+    def __init__(self):
+        self.by_words = {}
+        self.by_mays = {}
+
+    def words(self, kinds, one, other):
+        """As behind_words tells."""
+        key = (kinds, one, other)
+        if key not in self.by_words:
+            self.by_words[key] = behind_words(kinds, one, other)
+        return self.by_words[key]
+
+    def mays(self, kinds, one, other):
+        """As behind_mays tells."""
+        key = (kinds, one, other)
+        if key not in self.by_mays:
+            self.by_mays[key] = self.gathered(kinds, one, other)
+        return self.by_mays[key]
+
+    def gathered(self, kinds, one, other):
+        """All words that come of a word of the one may and a word of the other."""
+        words = words_of((kinds[0], kinds[2]))
+        found = {}
+        for word in one:
+            for next_word in other:
+                # Nothing more can come, and wide mays come to this early.
+                if len(found) == len(words):
+                    return words
+                for third in self.words(kinds, word, next_word):
+                    found[third] = True
+        return tuple([word for word in words if word in found])
+
+
 def behind_mays(kinds, one, other):
     """All words that come of a word of the one may and a word of the other."""
-    words = words_of((kinds[0], kinds[2]))
-    found = {}
-    for word in one:
-        for next_word in other:
-            # Nothing more can come, and wide mays come to this early.
-            if len(found) == len(words):
-                return words
-            for third in behind_words(kinds, word, next_word):
-                found[third] = True
-    return tuple([word for word in words if word in found])
+    return Behinds().gathered(kinds, one, other)
 
 
 def fits_three(kinds, one, other, third):

@@ -128,6 +128,15 @@ def table_of(things, telling):
     return tuple([(a, b, (word_between(things, telling, a, b),)) for a, b in pairs_of(things)])
 
 
+def telling_of(things, laid):
+    """The telling in which each end has the time that is laid for it."""
+    found = []
+    for name, kind in things:
+        times = [laid[(name, number)] for number in range(END_COUNTS[kind])]
+        found.append(times[0] if kind == "point" else tuple(times))
+    return tuple(found)
+
+
 def earlier_counts(things, table):
     """For each end, by a table of single words, how many ends are earlier."""
     # Of a stretch's own ends one is earlier than its end, none than its begin: as many as their numbers tell.
@@ -150,11 +159,7 @@ def telling_by(things, table):
     # so these counts, taken as times, have the words, too, or no times have. (In each word a stretch's end is later
     # than all that its begin is later than, so its count is always above its begin's.)
     counts = earlier_counts(things, table)
-    telling = []
-    for name, kind in things:
-        times = [(counts[(name, number)], 1) for number in range(END_COUNTS[kind])]
-        telling.append(times[0] if kind == "point" else tuple(times))
-    found = tuple(telling)
+    found = telling_of(things, {end: (counts[end], 1) for end in counts})
     return found if table_of(things, found) == table else None
 
 
