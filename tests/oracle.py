@@ -4,7 +4,7 @@ import functools
 import itertools
 from fractions import Fraction
 
-from layouts import ORDER, TURNED, WORDS, laid_out, way, word_laid
+from layouts import ORDER, TURNED, WORDS, end_numbers, laid_out, way, word_laid
 
 
 @functools.lru_cache(maxsize=None)
@@ -327,3 +327,45 @@ def kept_talk(dice, things, mays, gaps=0, most=13):
             saying = saying[:3] + (in_order(saying[3] + (word_in(things, telling, saying[1], saying[2]),)),)
         sayings.append(saying)
     return (things, tuple(sayings))
+
+
+def ways_laid(kinds, word):
+    """For each end of the one and each of the other how they stand, by times that have the word."""
+    one, other = sample(kinds, word)
+    return {(x, y): way(one[x], other[y]) for x in end_numbers(kinds[0]) for y in end_numbers(kinds[1])}
+
+
+def around_laid(kinds, may):
+    """The plain may around a may, by the document's words."""
+    by_word = {word: ways_laid(kinds, word) for word in WORDS[kinds]}
+    spans = {}
+    for ends in by_word[WORDS[kinds][0]]:
+        signs = {by_word[word][ends] for word in may}
+        spans[ends] = signs | {0} if {-1, 1} <= signs else signs
+    return tuple(word for word in WORDS[kinds] if all(by_word[word][ends] in spans[ends] for ends in spans))
+
+
+def plain_talk(talk):
+    """The talk with the plain mays around those of its may sayings."""
+    things, sayings = talk
+    kinds = dict(things)
+    plain = [saying if saying[0] == "gap" else
+             saying[:3] + (around_laid((kinds[saying[1]], kinds[saying[2]]), saying[3]),) for saying in sayings]
+    return (things, tuple(plain))
+
+
+def fits(talk, telling):
+    """Whether a telling keeps all may sayings of a talk."""
+    return all(is_row_so(talk[0], telling, saying[1:]) for saying in talk[1] if saying[0] == "may")
+
+
+def told_numbers(paper):
+    """The numbers of all sayings that a paper tells, within cases, too."""
+    found = []
+    for step in paper:
+        if step[0] == "told":
+            found.append(step[1])
+        if step[0] == "cases":
+            for words, inner in step[2]:
+                found += told_numbers(inner)
+    return found

@@ -8,24 +8,8 @@ from whens.behind import behind_mays
 from whens.plain import is_plain, plain_around, plain_parts, signs_in
 from whens.words import turned_may
 
-from layouts import ALL_KINDS, ALL_THREE_KINDS, ORDER, TWO_STRETCHES, WORDS, Case, end_numbers, some_mays, way
-from oracle import in_order, sample
-
-
-def ways_laid(kinds, word):
-    """For each end of the one and each of the other how they stand, by times that have the word."""
-    one, other = sample(kinds, word)
-    return {(x, y): way(one[x], other[y]) for x in end_numbers(kinds[0]) for y in end_numbers(kinds[1])}
-
-
-def around_laid(kinds, may):
-    """The plain may around a may, by the document's words."""
-    by_word = {word: ways_laid(kinds, word) for word in WORDS[kinds]}
-    spans = {}
-    for ends in by_word[WORDS[kinds][0]]:
-        signs = {by_word[word][ends] for word in may}
-        spans[ends] = signs | {0} if {-1, 1} <= signs else signs
-    return tuple(word for word in WORDS[kinds] if all(by_word[word][ends] in spans[ends] for ends in spans))
+from layouts import ALL_KINDS, ALL_THREE_KINDS, ORDER, TWO_STRETCHES, WORDS, Case, end_numbers, some_mays
+from oracle import around_laid, in_order, ways_laid
 
 
 def all_mays(kinds):
