@@ -10,87 +10,15 @@ from whens.checker import lets_no, rows_of
 from whens.gaps import full_talk, is_full, lines, spread, times
 from whens.tellings import is_telling
 
-from layouts import ODD, TURNED, WORDS, Case, end_numbers
+from layouts import ODD, TURNED, WORDS, Case
 from oracle import (
     fitting, fraction_of, is_row_so, refusal, some_gap_saying, some_talk, some_telling, some_things, table_laid,
-    ways_laid,
 )
+from rings import all_sums, ends_of, lines_laid, swift_sums
 
 P, S = "point", "stretch"
 THINGS = (("a", P), ("s", S), ("t", S))
 TABLE = (("a", "s", ("within",)), ("a", "t", ("ahead",)), ("s", "t", ("overlaps",)))
-
-
-def ends_of(things):
-    return [(name, number) for name, kind in things for number in end_numbers(kind)]
-
-
-def lines_laid(full):
-    """The lines of a full talk, by times that have each word."""
-    things, sayings = full
-    kinds = dict(things)
-    found = {((name, 0), (name, 1), (0, 1), True) for name, kind in things if kind == S}
-    for saying in sayings:
-        if saying[0] == "gap":
-            found.add(saying[1:])
-            continue
-        name, a, b, (word,) = saying
-        for (x, y), way in ways_laid((kinds[a], kinds[b]), word).items():
-            one, other = (a, x), (b, y)
-            if way <= 0:
-                found.add((one, other, (0, 1), way == -1))
-            if way >= 0:
-                found.add((other, one, (0, 1), way == 1))
-    return found
-
-
-def summed(one, other):
-    """Sums are pairs of a number and 0 where strict, 1 where not: so the tighter one is the lesser."""
-    return (one[0] + other[0], min(one[1], other[1]))
-
-
-def all_sums(full):
-    """The least sum of rows of lines from each end to each, or "ring": all rows that pass no end twice are gone through."""
-    tightest = {}
-    for x, y, number, strict in lines_laid(full):
-        bound = (fraction_of(number), 0 if strict else 1)
-        tightest[x, y] = min(bound, tightest.get((x, y), bound))
-    ends = ends_of(full[0])
-    leads = {x: [(y, tightest[x, y]) for y in ends if (x, y) in tightest] for x in ends}
-    found = {}
-
-    def go(start, here, passed, so_far):
-        for there, bound in leads[here]:
-            whole = summed(so_far, bound)
-            if there == start or there not in passed:
-                found[start, there] = min(whole, found.get((start, there), whole))
-            if there != start and there not in passed:
-                go(start, there, passed | {there}, whole)
-
-    for end in ends:
-        go(end, end, {end}, (Fraction(0), 1))
-    if any(found.get((end, end), (1, 1)) < (0, 1) for end in ends):
-        return "ring"
-    return found
-
-
-def swift_sums(full):
-    """The same for many ends, by going on until nothing is tighter; "ring" where that doesn't end in time."""
-    ends = ends_of(full[0])
-    found = {}
-    for x, y, number, strict in lines_laid(full):
-        bound = (fraction_of(number), 0 if strict else 1)
-        found[x, y] = min(bound, found.get((x, y), bound))
-    for turn in range(len(ends) + 1):
-        longer = dict(found)
-        for (x, y), (z, w) in itertools.product(found, found):
-            if y == z:
-                whole = summed(found[x, y], found[z, w])
-                longer[x, w] = min(whole, longer.get((x, w), whole))
-        found = longer
-        if any(found.get((end, end), (1, 1)) < (0, 1) for end in ends):
-            return "ring"
-    return found
 
 
 def rows_wanted(full, sums):

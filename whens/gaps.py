@@ -1,13 +1,10 @@
 """Full tables with gaps: the bounds of each two ends, times that keep them, or a ring of gaps that can't be."""
 
+from whens.bounds import hold, laid_times
 from whens.drafts import Draft, paper_of
-from whens.fractions import is_below, less, plus, product
-from whens.rows import NOUGHT, is_fault
-from whens.tellings import ends_of, is_table, kinds_of, telling_of
+from whens.rows import NOUGHT
+from whens.tellings import ends_of, is_table, kinds_of
 from whens.words import END_COUNTS, how_ends
-
-ONE = (1, 1)
-HALF = (1, 2)
 
 
 def is_full(things, thing):
@@ -66,51 +63,14 @@ def laid_line(draft, full, line, step):
     return told if row == line else draft.lay(("ends", told, line[0], line[1]), line)
 
 
-def is_tighter(row, other):
-    """Whether a gap row has a tighter bound than another one of the same ends."""
-    if row[2] == other[2]:
-        return row[3] and not other[3]
-    return is_below(row[2], other[2])
-
-
-def hold_tighter(draft, bounds, number):
-    """Holds a row among the bounds, by its ends, where there is none as tight."""
-    row = draft.rows[number]
-    ends = row[:2]
-    if ends not in bounds or is_tighter(row, draft.rows[bounds[ends]]):
-        bounds[ends] = number
-
-
-def added(draft, one, other):
-    """The number of the row of two gap rows added."""
-    x, y, number, strict = draft.rows[one]
-    y, z, more, also = draft.rows[other]
-    return draft.lay(("add", one, other), (x, z, plus(number, more), strict or also))
-
-
-def add_through(draft, bounds, ends, middle):
-    """Adds all that leads through the middle end; the number of a fault if one comes."""
-    for x in ends:
-        for z in ends:
-            if (x, middle) in bounds and (middle, z) in bounds:
-                number = added(draft, bounds[(x, middle)], bounds[(middle, z)])
-                if x != z:
-                    hold_tighter(draft, bounds, number)
-                elif is_fault(draft.rows[number]):
-                    return number
-    return None
-
-
 def spread(full):
     """("spread", the tightest bound of each two ends), or ("ring", a paper) where lines come round to less than 0."""
     draft = Draft()
     bounds = {}
     steps = lines_by_step(full)
-    for line in steps:
-        hold_tighter(draft, bounds, laid_line(draft, full, line, steps[line]))
     ends = sorted(ends_of(full[0]))
-    for middle in ends:
-        fault = add_through(draft, bounds, ends, middle)
+    for line in steps:
+        fault = hold(draft, ends, bounds, laid_line(draft, full, line, steps[line]))
         if fault is not None:
             return ("ring", paper_of(draft, fault))
     rows = [
@@ -120,45 +80,9 @@ def spread(full):
     return ("spread", tuple(rows))
 
 
-def greatest(some):
-    """The greatest of some fractions."""
-    found = some[0]
-    for time in some:
-        if is_below(found, time):
-            found = time
-    return found
-
-
-def least(some):
-    """The least of some fractions."""
-    found = some[0]
-    for time in some:
-        if is_below(time, found):
-            found = time
-    return found
-
-
-def time_with_room(bounds, laid, end):
-    """A time for an end that the bounds let it have, with the times that are laid for others."""
-    floors = [less(laid[x], bounds[(x, end)][0]) for x in laid if bounds[(x, end)] is not None]
-    roofs = [plus(laid[y], bounds[(end, y)][0]) for y in laid if bounds[(end, y)] is not None]
-    if floors == [] and roofs == []:
-        return NOUGHT
-    if roofs == []:
-        return plus(greatest(floors), ONE)
-    if floors == []:
-        return less(least(roofs), ONE)
-    # Just on a bound only where both are one: there none can be strict.
-    return product(plus(greatest(floors), least(roofs)), HALF)
-
-
 def times(full):
     """A telling that keeps a full talk, or None where none does."""
     word, rows = spread(full)
     if word == "ring":
         return None
-    bounds = {(x, y): bound for x, y, bound in rows}
-    laid = {}
-    for end in ends_of(full[0]):
-        laid[end] = time_with_room(bounds, laid, end)
-    return telling_of(full[0], laid)
+    return laid_times(full[0], {(x, y): bound for x, y, bound in rows if bound is not None}, {})
