@@ -64,9 +64,9 @@ def packed_talks():
     return [
         (packed_talk(lengths, whole), True),
         (packed_talk(lengths, whole, strict=True), False),
-        (packed_talk(lengths, whole - Fraction(1, 999999)), False),
+        (packed_talk(lengths, whole - Fraction(1, 9999)), False),
         (packed_talk(lengths, whole, apart), False),
-        (packed_talk(lengths, whole + Fraction(1, 999999), apart), True),
+        (packed_talk(lengths, whole + Fraction(1, 9999), apart), True),
     ]
 
 

@@ -16,15 +16,15 @@ def shown_number(number):
     return f"{top}/{bottom}" if bottom > 1 else f"{top}"
 
 
-def are_figures(text):
-    """Whether a text is one to six figures."""
-    return 1 <= len(text) <= MOST_FIGURES and all([sign in FIGURES for sign in text])
+def are_figures(text, most):
+    """Whether a text is one figure or more, at most so many."""
+    return 1 <= len(text) <= most and all([sign in FIGURES for sign in text])
 
 
-def read_number(text):
-    """The fraction that is shown as this text, or None."""
+def read_number(text, most):
+    """The fraction that is shown as this text, with at most so many figures in each of its numbers, or None."""
     top, slash, bottom = text.partition("/")
-    if not are_figures(top.removeprefix("-")) or slash != "" and not are_figures(bottom):
+    if not are_figures(top.removeprefix("-"), most) or slash != "" and not are_figures(bottom, most):
         return None
     number = (int(top), int(bottom) if slash != "" else 1)
     return number if is_fraction(number) and shown_number(number) == text else None
@@ -99,7 +99,7 @@ def read_gap(things, words, row):
     y = read_end(things, word_at(words, 2, row))
     if y is None or y == x:
         raise NoText(row, 2)
-    number = read_number(word_at(words, 3, row))
+    number = read_number(word_at(words, 3, row), MOST_FIGURES)
     if number is None:
         raise NoText(row, 3)
     strict = len(words) > 4
