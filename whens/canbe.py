@@ -2,13 +2,9 @@
 
 from whens.behind import Behinds
 from whens.deciding import decided_by
+from whens.talks import with_saying
 from whens.tellings import kinds_of, pairs_of, word_between
 from whens.words import words_of
-
-
-def with_saying(talk, saying):
-    """The talk with a saying behind its others."""
-    return (talk[0], talk[1] + (saying,))
 
 
 def words_found(talk, a, b, tellings, behinds):

@@ -62,6 +62,14 @@ def lets_no(talk, thing):
     return True
 
 
+def is_let_by(talk, thing):
+    """Whether any plain thing is a paper that is shut for the talk."""
+    try:
+        return lets_no(talk, thing)
+    except NoPaper:
+        return False
+
+
 def rows_of(talk, paper):
     """The rows that the steps of a paper that is let by give, in order; cases give none."""
     rows = []

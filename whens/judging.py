@@ -2,15 +2,13 @@
 
 from whens.behind import Behinds
 from whens.bounds import laid_times
-from whens.canbe import with_saying
-from whens.checker import lets_no
+from whens.checker import is_let_by
 from whens.closing import Board
 from whens.drafts import paper_of
-from whens.errors import NoPaper
 from whens.fractions import common, product
 from whens.seeking import Search, sought
 from whens.settling import state_of_all
-from whens.talks import keeps
+from whens.talks import keeps, with_saying
 from whens.tellings import is_telling, kinds_of, word_between
 from whens.ways import go_on
 from whens.words import words_of
@@ -62,14 +60,6 @@ def judged_by(talk, behinds):
 def judged(talk):
     """("yes", a telling that keeps the talk), or ("no", a paper)."""
     return judged_by(talk, Behinds())
-
-
-def is_let_by(talk, thing):
-    """Whether the checker lets any plain thing by for the talk."""
-    try:
-        return lets_no(talk, thing)
-    except NoPaper:
-        return False
 
 
 def is_answer(talk, thing):

@@ -1,9 +1,10 @@
 """Least clashes: few sayings that no telling keeps, none of which can be struck without the no being lost."""
 
 from whens.behind import Behinds
+from whens.checker import is_let_by
 from whens.errors import NoClash
 from whens.fractions import is_whole
-from whens.judging import is_let_by, judged_by
+from whens.judging import judged_by
 from whens.talks import keeps
 from whens.tellings import is_telling
 

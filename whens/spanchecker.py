@@ -1,11 +1,10 @@
 """The checker of how far apart two ends can lie: it looks at what shows an answer and seeks nothing."""
 
-from whens.canbe import with_saying
 from whens.checker import lets_no
 from whens.errors import NoSpan
 from whens.fractions import is_below, is_fraction, less
 from whens.rows import NOUGHT
-from whens.talks import keeps
+from whens.talks import keeps, with_saying
 from whens.tellings import ends_of, is_telling, time_of
 
 

@@ -2,11 +2,11 @@
 
 from whens.behind import Behinds
 from whens.bounds import HALF, greatest, laid_times
-from whens.canbe import with_saying
 from whens.fractions import less, plus, product
 from whens.judging import weighed
 from whens.rows import NOUGHT
 from whens.spanchecker import beyond, is_limit
+from whens.talks import with_saying
 from whens.tellings import ends_of, telling_of, time_of
 
 ONE = (1, 1)

@@ -43,6 +43,11 @@ def is_talk(thing):
     return all([is_saying(things, saying) for saying in sayings])
 
 
+def with_saying(talk, saying):
+    """The talk with a saying behind its others."""
+    return (talk[0], talk[1] + (saying,))
+
+
 def is_so(things, saying, telling):
     """Whether the saying is so in the telling."""
     if saying[0] == "may":
