@@ -1,15 +1,13 @@
 """How far one end can be behind another, with what shows it."""
 
 from whens.behind import Behinds
-from whens.bounds import HALF, greatest, laid_times
+from whens.bounds import HALF, ONE, greatest, laid_times
 from whens.fractions import less, plus, product
 from whens.judging import weighed
 from whens.rows import NOUGHT
 from whens.spanchecker import beyond, is_limit
 from whens.talks import with_saying
 from whens.tellings import ends_of, telling_of, time_of
-
-ONE = (1, 1)
 
 
 def mixed(things, one, other, share, rest):
@@ -33,7 +31,7 @@ def near_limit(talk, telling, limit):
 
 
 def shown_free(talk, x, bounds):
-    """A telling, and a drift of it, where the bounds of x lead to some ends, but not to that it can leave behind."""
+    """A telling, and a drift of it in which x goes on with all ends that its bounds lead to, and leaves others behind."""
     things = talk[0]
     telling = laid_times(things, bounds, {})
     ends = ends_of(things)
