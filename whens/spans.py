@@ -31,7 +31,7 @@ def near_limit(talk, telling, limit):
 
 
 def shown_free(talk, x, bounds):
-    """A telling, and a drift of it in which x goes on with all ends that its bounds lead to, and leaves others behind."""
+    """A telling, and a drift of it in which x goes on with all ends that its bounds lead to, and leaves the others."""
     things = talk[0]
     telling = laid_times(things, bounds, {})
     ends = ends_of(things)
